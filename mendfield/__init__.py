@@ -1,0 +1,1 @@
+"""Mendfield: codes that mend what was wrong and what was lost."""
