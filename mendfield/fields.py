@@ -32,6 +32,15 @@ def logs_of(powers):
     return logs
 
 
+def product_rows(powers, logs):
+    """The list that has at place a the products of a with each element, by their steps."""
+    many = len(powers) + 1
+    rows = [[0] * many]
+    for a in range(1, many):
+        rows.append([0] + [powers[(logs[a] + logs[b]) % (many - 1)] for b in range(1, many)])
+    return rows
+
+
 def makes_bit_field(bits):
     """Whether a bit field is made by this whole number."""
     # The bounds come first: of far numbers standing alone is slow to tell.
@@ -67,9 +76,7 @@ class Field:
 
     def times(self, a, b):
         """The product of a and b."""
-        if a == 0 or b == 0:
-            return 0
-        return self.step_power(self.logs[a] + self.logs[b])
+        raise NotImplementedError("each kind of field multiplies in its own way")
 
     def over(self, a, b):
         """The element that times b is a."""
@@ -105,10 +112,15 @@ class Field:
 
     def dot(self, xs, ys):
         """The sum of the products of two lists, place by place."""
-        total = 0
-        for x, y in zip(xs, ys):
-            total = self.plus(total, self.times(x, y))
-        return total
+        raise NotImplementedError("each kind of field multiplies in its own way")
+
+    def scaled(self, a, row):
+        """a times each element of the row."""
+        raise NotImplementedError("each kind of field multiplies in its own way")
+
+    def lessened(self, row, a, other):
+        """The row less a times the other, place by place."""
+        raise NotImplementedError("each kind of field multiplies in its own way")
 
     def told(self):
         """The field as a text."""
@@ -124,6 +136,8 @@ class BitField(Field):
         self.bits = bits
         many = 1 << (bits.bit_length() - 1)
         Field.__init__(self, many, lambda a, b: bits_divided(bits_times(a, b), bits)[1])
+        # Kept whole, since everything above the fields multiplies rows of elements.
+        self.products = product_rows(self.powers, self.logs)
 
     def plus(self, a, b):
         """The sum of a and b."""
@@ -133,9 +147,31 @@ class BitField(Field):
         """a less b, which is their sum here."""
         return a ^ b
 
+    def times(self, a, b):
+        """The product of a and b."""
+        return self.products[a][b]
+
     def often(self, n, a):
         """The sum of n times a; two of a are 0."""
         return a if n % 2 == 1 else 0
+
+    def dot(self, xs, ys):
+        """The sum of the products of two lists, place by place."""
+        products = self.products
+        total = 0
+        for x, y in zip(xs, ys):
+            total ^= products[x][y]
+        return total
+
+    def scaled(self, a, row):
+        """a times each element of the row."""
+        by_a = self.products[a]
+        return [by_a[x] for x in row]
+
+    def lessened(self, row, a, other):
+        """The row less a times the other, place by place."""
+        by_a = self.products[a]
+        return [x ^ by_a[y] for x, y in zip(row, other)]
 
     def told(self):
         """The field as a text."""
@@ -166,6 +202,20 @@ class PrimeField(Field):
     def often(self, n, a):
         """The sum of n times a."""
         return n * a % self.prime
+
+    def dot(self, xs, ys):
+        """The sum of the products of two lists, place by place."""
+        return sum([x * y for x, y in zip(xs, ys)]) % self.prime
+
+    def scaled(self, a, row):
+        """a times each element of the row."""
+        prime = self.prime
+        return [a * x % prime for x in row]
+
+    def lessened(self, row, a, other):
+        """The row less a times the other, place by place."""
+        prime = self.prime
+        return [(x - a * y) % prime for x, y in zip(row, other)]
 
     def told(self):
         """The field as a text."""

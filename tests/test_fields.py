@@ -180,6 +180,21 @@ class Adding(unittest.TestCase):
             self.assertEqual(empty, [])
 
 
+class Rows(unittest.TestCase):
+    def test_rows_of_elements(self):
+        for plain, field in each(PLAIN):
+            row = [(3 * k + 1) % plain.many for k in range(70)]
+            other = [(k * k + 5) % plain.many for k in range(70)]
+            kept = (list(row), list(other))
+            for a in range(plain.many):
+                due = [plain.times(a, y) for y in other]
+                self.assertEqual(field.scaled(a, other), due)
+                left = field.lessened(row, a, other)
+                self.assertEqual([plain.plus(x, y) for x, y in zip(left, due)], row)
+            self.assertEqual((row, other), kept)
+            self.assertEqual((field.scaled(1, []), field.lessened([], 1, [])), ([], []))
+
+
 class Dividing(unittest.TestCase):
     def test_over(self):
         for plain, field in each(PLAIN):

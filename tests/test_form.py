@@ -27,6 +27,33 @@ OUTSIDE = (ast.With, ast.Match, ast.Delete, ast.Global, ast.Nonlocal, ast.Assert
            ast.NamedExpr, ast.Starred, ast.Div, ast.MatMult, ast.AnnAssign, ast.Import)
 
 
+WALKED_AT_ONCE = {"zip", "enumerate", "reversed", "range"}
+WALKERS = {"list", "tuple", "dict", "sorted", "sum", "any", "all", "enumerate", "zip", "min", "max"}
+CHANGES = {"append", "clear", "extend", "insert", "pop", "remove", "reverse", "setdefault", "update"}
+
+
+def trees():
+    """Each file's name with its tree."""
+    return [(path.name, ast.parse(path.read_text())) for path in FILES]
+
+
+def bound_names(node):
+    """The parameters and locals of a function, those of comprehensions and of functions within among them."""
+    found = {part.arg for part in ast.walk(node) if isinstance(part, ast.arg)}
+    found |= {part.id for part in ast.walk(node) if isinstance(part, ast.Name) and isinstance(part.ctx, ast.Store)}
+    return found | {part.name for part in ast.walk(node) if isinstance(part, ast.ExceptHandler) and part.name}
+
+
+def called_name(node):
+    """The name of what is called, None where it is no plain call."""
+    return node.func.id if isinstance(node, ast.Call) and isinstance(node.func, ast.Name) else None
+
+
+def drawn_from(tree):
+    """The files that a file draws from."""
+    return {node.module.rpartition(".")[2] + ".py" for node in ast.walk(tree) if isinstance(node, ast.ImportFrom)}
+
+
 def walked():
     """Each file's name with each node of its tree."""
     return [(path.name, node) for path in FILES for node in ast.walk(ast.parse(path.read_text()))]
@@ -35,7 +62,8 @@ def walked():
 class Files(unittest.TestCase):
     def test_there_are_files(self):
         names = [path.name for path in FILES]
-        for name in ("__init__.py", "errors.py", "bits.py", "fields.py"):
+        for name in ("__init__.py", "errors.py", "bits.py", "fields.py", "polys.py", "roots.py", "tables.py",
+                     "solving.py"):
             self.assertIn(name, names)
 
     def test_nothing_else_lies_there(self):
@@ -94,6 +122,101 @@ class Language(unittest.TestCase):
                 self.assertIsNone(node.annotation, (name, node.lineno))
             if isinstance(node, ast.FunctionDef):
                 self.assertTrue(not node.name.startswith("_") or node.name in UNDERSCORED, (name, node.name))
+
+    def test_one_plain_target(self):
+        for name, node in walked():
+            if isinstance(node, ast.Assign):
+                self.assertEqual(len(node.targets), 1, (name, node.lineno))
+                self.assertNotIsInstance(node.targets[0], (ast.Tuple, ast.List), (name, node.lineno))
+
+    def test_each_name_once_at_the_top(self):
+        for name, tree in trees():
+            top = [part.name for part in tree.body if isinstance(part, (ast.FunctionDef, ast.ClassDef))]
+            for part in tree.body:
+                self.assertIsInstance(part, (ast.Expr, ast.ImportFrom, ast.Assign, ast.FunctionDef, ast.ClassDef), name)
+                if isinstance(part, ast.ImportFrom):
+                    top += [alias.name for alias in part.names]
+                    self.assertEqual([alias.asname for alias in part.names], [None] * len(part.names), name)
+                if isinstance(part, ast.Assign):
+                    top += [target.id for target in part.targets]
+            self.assertEqual(len(top), len(set(top)), (name, top))
+
+    def test_no_local_is_called_like_a_class_or_an_import(self):
+        for name, tree in trees():
+            taken = {part.name for part in tree.body if isinstance(part, ast.ClassDef)}
+            for part in tree.body:
+                if isinstance(part, ast.ImportFrom):
+                    taken |= {alias.name for alias in part.names}
+            for part in ast.walk(tree):
+                if isinstance(part, ast.FunctionDef):
+                    self.assertFalse(bound_names(part) & (taken | set(dir(builtins))), (name, part.name))
+
+    def test_names_are_drawn_from_where_they_are_defined(self):
+        known = dict(trees())
+        for name, tree in trees():
+            for node in ast.walk(tree):
+                if isinstance(node, ast.ImportFrom):
+                    source = known[node.module.rpartition(".")[2] + ".py"]
+                    defined = {part.name for part in source.body if isinstance(part, (ast.FunctionDef, ast.ClassDef))}
+                    defined |= {part.targets[0].id for part in source.body if isinstance(part, ast.Assign)}
+                    self.assertLessEqual({alias.name for alias in node.names}, defined, name)
+
+    def test_every_import_is_used(self):
+        for name, tree in trees():
+            used = {node.id for node in ast.walk(tree) if isinstance(node, ast.Name)}
+            for node in ast.walk(tree):
+                if isinstance(node, ast.ImportFrom):
+                    self.assertLessEqual({alias.name for alias in node.names}, used, name)
+
+    def test_no_files_draw_from_one_another(self):
+        left = {name: drawn_from(tree) for name, tree in trees()}
+        while left:
+            free = [name for name in left if not left[name] & set(left)]
+            self.assertNotEqual(free, [], left)
+            for name in free:
+                left.pop(name)
+
+    def test_is_stands_beside_none_true_false(self):
+        for name, node in walked():
+            if isinstance(node, ast.Compare) and any(isinstance(op, (ast.Is, ast.IsNot)) for op in node.ops):
+                self.assertIsInstance(node.comparators[0], ast.Constant, (name, node.lineno))
+                self.assertIn(node.comparators[0].value, (None, True, False), (name, node.lineno))
+
+    def test_walked_on_the_spot(self):
+        for name, tree in trees():
+            fine = set()
+            for node in ast.walk(tree):
+                if isinstance(node, (ast.For, ast.comprehension)):
+                    fine.add(node.iter)
+                if called_name(node) in WALKERS and node.args:
+                    fine.add(node.args[0])
+            for node in ast.walk(tree):
+                if called_name(node) in WALKED_AT_ONCE:
+                    self.assertIn(node, fine, (name, node.lineno))
+
+    def test_what_is_walked_is_not_changed(self):
+        for name, node in walked():
+            if isinstance(node, ast.For):
+                taken = {ast.unparse(node.iter)}
+                if called_name(node.iter) in WALKED_AT_ONCE - {"range"}:
+                    taken |= {ast.unparse(part) for part in node.iter.args}
+                for part in [inner for row in node.body for inner in ast.walk(row)]:
+                    if isinstance(part, ast.Subscript) and isinstance(part.ctx, ast.Store):
+                        self.assertNotIn(ast.unparse(part.value), taken, (name, node.lineno))
+                    if isinstance(part, ast.Attribute) and part.attr in CHANGES:
+                        self.assertNotIn(ast.unparse(part.value), taken, (name, node.lineno))
+
+    def test_errors_are_made_on_the_spot_and_none_of_python_s_is_taken(self):
+        for name, node in walked():
+            if isinstance(node, ast.Raise):
+                self.assertIsInstance(node.exc, ast.Call, (name, node.lineno))
+            if isinstance(node, ast.ExceptHandler):
+                self.assertFalse(hasattr(builtins, ast.unparse(node.type)), (name, node.lineno))
+
+    def test_no_sets_are_kept(self):
+        for name, node in walked():
+            self.assertNotIsInstance(node, ast.Set, (name, getattr(node, "lineno", 0)))
+            self.assertNotIn(called_name(node), ("set", "frozenset"), (name, getattr(node, "lineno", 0)))
 
     def test_methods_of_python_s_own(self):
         foreign = {each for kind in (str, int, list, dict, set, bytes) for each in dir(kind)} - METHODS - {"__init__"}
