@@ -63,7 +63,8 @@ class Files(unittest.TestCase):
     def test_there_are_files(self):
         names = [path.name for path in FILES]
         for name in ("__init__.py", "errors.py", "bits.py", "fields.py", "polys.py", "roots.py", "tables.py",
-                     "solving.py", "rules.py", "finder.py", "rootmend.py"):
+                     "solving.py", "rules.py", "finder.py", "rootmend.py", "columns.py", "searchmend.py", "codes.py",
+                     "rootcodes.py"):
             self.assertIn(name, names)
 
     def test_nothing_else_lies_there(self):
