@@ -8,6 +8,18 @@ def is_nought(column):
     return all([x == 0 for x in column])
 
 
+def sets_of(width, size):
+    """All sets of so many of the places below width, in their order."""
+    sets = [[]]
+    for turn in range(size):
+        larger = []
+        for places in sets:
+            begin = places[-1] + 1 if places != [] else 0
+            larger.extend([places + [place] for place in range(begin, width)])
+        sets = larger
+    return sets
+
+
 def past(field, column, others):
     """The others up to multiples of column, which is not all 0; each is told by one element fewer.
 
