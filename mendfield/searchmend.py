@@ -22,15 +22,6 @@ def numbers_within(field, columns, due, most):
     return None
 
 
-def fewest_within(field, columns, due, most):
-    """As numbers_within, but as few numbers as there can be."""
-    for size in range(most + 1):
-        found = numbers_within(field, columns, due, size)
-        if found is not None:
-            return found
-    return None
-
-
 def past_lost(field, columns, lost):
     """The columns up to sums of multiples of those at the lost places."""
     for place in lost:
@@ -43,7 +34,7 @@ def wrong_places(field, table, lost, sums, most):
     """At most so many places, beside the lost ones, whose signs can have made these sums; None without such."""
     columns = past_lost(field, turned(table) + [sums], lost)
     others = [place for place in range(len(columns) - 1) if place not in lost]
-    numbers = fewest_within(field, [columns[place] for place in others], columns[-1], most)
+    numbers = numbers_within(field, [columns[place] for place in others], columns[-1], most)
     return None if numbers is None else [others[number] for number in numbers]
 
 

@@ -64,7 +64,8 @@ class Files(unittest.TestCase):
         names = [path.name for path in FILES]
         for name in ("__init__.py", "errors.py", "bits.py", "fields.py", "polys.py", "roots.py", "tables.py",
                      "solving.py", "rules.py", "finder.py", "rootmend.py", "columns.py", "searchmend.py", "codes.py",
-                     "rootcodes.py", "checkcodes.py", "papers.py", "census.py"):
+                     "rootcodes.py", "checkcodes.py", "papers.py", "census.py", "texts.py", "weaving.py", "lines.py",
+                     "desk.py"):
             self.assertIn(name, names)
 
     def test_nothing_else_lies_there(self):
