@@ -1,6 +1,7 @@
 """Codes: what each has, how words are written, checked and mended; and the codes by repeating."""
 
 from mendfield.errors import NoCode, NoSign, NoWord, TooFar
+from mendfield.signs import differences, lost_places
 from mendfield.tables import by_column, free_places, kernel_of_reduced, reduced, row_by, width_of
 
 
@@ -27,21 +28,6 @@ def refuse_no_sign_but_lost(field, signs):
     for place, sign in enumerate(signs):
         if sign is not None and not field.holds(sign):
             raise NoSign(place)
-
-
-def lost_places(signs):
-    """The places of the lost signs, rising."""
-    return [place for place, sign in enumerate(signs) if sign is None]
-
-
-def differences(signs, sent):
-    """The tuples (place, was, due) of all places not lost at which the signs differ from what was sent, rising."""
-    found = []
-    for place, due in enumerate(sent):
-        was = signs[place]
-        if was is not None and was != due:
-            found.append((place, was, due))
-    return found
 
 
 class Code:

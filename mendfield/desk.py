@@ -1,11 +1,12 @@
 """A desk: orders as texts, each answered with a text."""
 
 from mendfield.checkcodes import CheckCode
-from mendfield.codes import RepeatCode, differences
+from mendfield.codes import RepeatCode
 from mendfield.errors import NoOrder, NoPlace, NoSign, NotYet
 from mendfield.fields import BitField, PrimeField
 from mendfield.lines import Line, refuse_depth
 from mendfield.rootcodes import RootCode
+from mendfield.signs import differences
 
 FIGURES = "0123456789"
 # How many numbers stand behind the name of an order; "checks" and "send" are written in their own ways.

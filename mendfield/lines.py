@@ -1,7 +1,8 @@
 """Lines: texts are sent as woven words of a code, and received with what was wrong and lost in them."""
 
-from mendfield.codes import differences, refuse_no_sign_but_lost
+from mendfield.codes import refuse_no_sign_but_lost
 from mendfield.errors import NoRows, RowsFar
+from mendfield.signs import differences
 from mendfield.texts import laid, unlaid
 from mendfield.weaving import cut_rows, unwoven, woven
 

@@ -2,6 +2,7 @@
 
 from mendfield.finder import place_finder, places_in, root_sums, signs_at
 from mendfield.rules import off_at, shortest
+from mendfield.signs import lost_places, noughts_for_lost, taken_off
 
 
 def wrong_places(field, lost, sums, length):
@@ -20,18 +21,14 @@ def wrong_places(field, lost, sums, length):
 
 def root_nearest(field, first, extra, word):
     """The word with all root sums 0 that differs at e of the places not lost, f lost, 2e + f not above extra."""
-    lost = [place for place, sign in enumerate(word) if sign is None]
+    lost = lost_places(word)
     if len(lost) > extra:
         return None
-    near = [0 if sign is None else sign for sign in word]
-    sums = root_sums(field, first, extra, near)
+    known = noughts_for_lost(word)
+    sums = root_sums(field, first, extra, known)
     wrong = wrong_places(field, lost, sums, len(word))
     if wrong is None:
         return None
     places = lost + wrong
     signs = signs_at(field, first, places, sums)
-    if signs is None:
-        return None
-    for place, sign in zip(places, signs):
-        near[place] = field.minus(near[place], sign)
-    return near
+    return None if signs is None else taken_off(field, known, places, signs)

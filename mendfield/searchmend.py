@@ -1,6 +1,7 @@
 """The near row: mending a word with wrong and lost signs by looking at sets of columns."""
 
 from mendfield.columns import is_nought, past
+from mendfield.signs import lost_places, noughts_for_lost, taken_off
 from mendfield.solving import solved
 from mendfield.tables import by_column, picked, turned
 
@@ -40,17 +41,15 @@ def wrong_places(field, table, lost, sums, most):
 
 def near_row(field, table, room, word):
     """The row sent to 0 that differs at e of the places not lost, f being lost, with 2e + f below the room."""
-    lost = [place for place, sign in enumerate(word) if sign is None]
+    lost = lost_places(word)
     if len(lost) >= room:
         return None
-    near = [0 if sign is None else sign for sign in word]
-    sums = by_column(field, table, near)
+    known = noughts_for_lost(word)
+    sums = by_column(field, table, known)
     wrong = wrong_places(field, table, lost, sums, (room - 1 - len(lost)) // 2)
     if wrong is None:
         return None
     places = lost + wrong
-    if places != []:
-        signs = solved(field, picked(table, places), sums)
-        for place, sign in zip(places, signs):
-            near[place] = field.minus(near[place], sign)
-    return near
+    if places == []:
+        return known
+    return taken_off(field, known, places, solved(field, picked(table, places), sums))

@@ -2,21 +2,10 @@
 
 import itertools
 
-from helpers import asked, near_ones, plain_by_column, plain_words, some_row
+from helpers import asked, near_ones, plain_by_column, plain_words, some_row, spoilt
 from mendfield.codes import Code
 from mendfield.errors import NoSign, NoWord, TooFar
 from mendfield.tables import kernel, leads, reduced
-
-
-def spoilt(field, word, wrong, lost, turn):
-    """The word with so many wrong and lost signs."""
-    found = list(word)
-    places = turn.sample(range(len(word)), wrong + lost)
-    for place in places[:wrong]:
-        found[place] = field.plus(word[place], turn.randrange(1, field.many))
-    for place in places[wrong:]:
-        found[place] = None
-    return found
 
 
 def lost_in(word):

@@ -80,6 +80,17 @@ def near_ones(words, word, room):
     return found
 
 
+def spoilt(field, word, wrong, lost, turn):
+    """The word with so many wrong and lost signs."""
+    found = list(word)
+    places = turn.sample(range(len(word)), wrong + lost)
+    for place in places[:wrong]:
+        found[place] = field.plus(word[place], turn.randrange(1, field.many))
+    for place in places[wrong:]:
+        found[place] = None
+    return found
+
+
 def lists_in(value):
     """Every list within a value, itself among them."""
     found = []

@@ -87,7 +87,8 @@ class Receiving(unittest.TestCase):
             for depth in (1, 2, 16):
                 line = Line(code, depth)
                 stream = line.sent("Hi")
-                for signs in ([], stream[:-1], stream + [0], stream + [None], [None], [-1], stream[:-1] + [10 ** 9, -1]):
+                for signs in ([], stream[:-1], stream + [0], stream + [None], [None], [-1],
+                              stream[:-1] + [10 ** 9, -1]):
                     if len(signs) % (depth * code.length) != 0 or signs == []:
                         self.refused(NoRows, line, signs)
                 if depth > 1:

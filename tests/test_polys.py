@@ -2,7 +2,7 @@
 
 import unittest
 
-from helpers import EIGHT, FIELDS, FOUR, SEVEN, SIXTEEN, SMALL, THREE, TWO, all_words, asked, chance, some_row
+from helpers import EIGHT, FIELDS, FOUR, SEVEN, SIXTEEN, THREE, TWO, all_words, asked, chance, some_row
 from mendfield.errors import ByNought
 from mendfield.polys import (poly_divided, poly_greatest, poly_minus, poly_plus, poly_times, slope, trimmed,
                              value_at)

@@ -4,7 +4,7 @@ import itertools
 import unittest
 
 from helpers import (EIGHT, FIELDS, FIVE, FOUR, SEVEN, SIXTEEN, SIXTY_FOUR, SIXTY_ONE, THREE, all_words, asked,
-                     chance, near_ones, some_row)
+                     chance, near_ones, some_row, spoilt)
 from mendfield.finder import root_sums
 from mendfield.polys import poly_times
 from mendfield.rootmend import root_nearest
@@ -23,17 +23,6 @@ def some_word(field, first, extra, length, turn):
     maker = by_roots(field, [field.step_power(first + i) for i in range(extra)])
     word = poly_times(field, maker, some_row(field, length - extra, turn))
     return word + [0] * (length - len(word))
-
-
-def spoilt(field, word, wrong, lost, turn):
-    """The word with so many wrong and lost signs."""
-    found = list(word)
-    places = turn.sample(range(len(word)), wrong + lost)
-    for place in places[:wrong]:
-        found[place] = field.plus(word[place], turn.randrange(1, field.many))
-    for place in places[wrong:]:
-        found[place] = None
-    return found
 
 
 class AllWords(unittest.TestCase):

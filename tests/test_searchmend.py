@@ -4,7 +4,7 @@ import itertools
 import unittest
 
 from helpers import (EIGHT, FIELDS, FIVE, FOUR, SEVEN, SIXTY_FOUR, SIXTY_ONE, THREE, TWO, asked, chance, near_ones,
-                     plain_by_column, plain_words, some_row, some_table, unit_table)
+                     plain_by_column, plain_words, some_row, some_table, spoilt, unit_table)
 from mendfield.columns import first_bound
 from mendfield.searchmend import near_row
 from mendfield.tables import kernel
@@ -66,15 +66,6 @@ class TwelveColumns(unittest.TestCase):
         turn = chance("tables", field.told())
         return found + [some_table(field, 8, 12, turn)]
 
-    def spoilt(self, field, word, wrong, lost, turn):
-        found = list(word)
-        places = turn.sample(range(12), wrong + lost)
-        for place in places[:wrong]:
-            found[place] = field.plus(word[place], turn.randrange(1, field.many))
-        for place in places[wrong:]:
-            found[place] = None
-        return found
-
     def test_just_below_the_room_and_just_at_it(self):
         for field in FIELDS:
             turn = chance("just below", field.told())
@@ -83,14 +74,14 @@ class TwelveColumns(unittest.TestCase):
                 for wrong in range((room - 1) // 2 + 1):
                     lost = room - 1 - 2 * wrong
                     word = some_word_of(field, table, turn)
-                    handed = self.spoilt(field, word, wrong, lost, turn)
+                    handed = spoilt(field, word, wrong, lost, turn)
                     self.assertEqual(asked(self, near_row, field, table, room, handed), word)
                     self.assertEqual(near_row(field, table, room, word), word)
                     if room > 1:
                         # The same word in a room that is one less: 2e + f is just at it.
                         self.assertIsNone(asked(self, near_row, field, table, room - 1, handed))
                     if wrong + lost < 12:
-                        further = self.spoilt(field, word, wrong, lost + 1, turn)
+                        further = spoilt(field, word, wrong, lost + 1, turn)
                         told = near_row(field, table, room, further)
                         self.assertTrue(told is None or near_ones([told], further, room) == [told])
                         self.assertNotEqual(told, word)

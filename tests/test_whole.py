@@ -3,9 +3,9 @@
 import copy
 import unittest
 
-from code_checks import differing, spoilt
+from code_checks import differing
 from helpers import (EIGHT, FIELDS, FIVE, FOUR, SEVEN, SIXTEEN, SIXTY_FOUR, SIXTY_ONE, THREE, TWO, asked, chance,
-                     distance_of, near_ones, plain_words, some_row, weight)
+                     distance_of, near_ones, plain_words, some_row, spoilt, weight)
 from mendfield.census import census
 from mendfield.checkcodes import CheckCode
 from mendfield.codes import RepeatCode
